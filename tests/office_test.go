@@ -299,6 +299,9 @@ func wantTicketFor(o impl.Office, id int) (impl.Ticket, bool) {
 	if len(days) > 0 {
 		ticket.Last = slices.Max(days)
 	}
+	if !rightTicket(ticket) {
+		return impl.Ticket{}, false
+	}
 	return ticket, true
 }
 
@@ -306,10 +309,18 @@ func checkTicketFor(t *testing.T, o impl.Office, id int) impl.Ticket {
 	t.Helper()
 	want, will := wantTicketFor(o, id)
 	got, ok := impl.TicketFor(o, id)
-	if !sameTicket(got, want) || ok != will {
+	if !sameTicket(got, want) || ok != will || ok != impl.TicketOk(got) {
 		t.Errorf("TicketFor(%+v, %d) = %+v, %t, want %+v, %t", o, id, got, ok, want, will)
 	}
 	return got
+}
+
+func checkNoTicket(t *testing.T, o impl.Office, id int) {
+	t.Helper()
+	checkTicketFor(t, o, id)
+	if got, ok := impl.TicketFor(o, id); ok || !sameTicket(got, impl.Ticket{}) {
+		t.Errorf("TicketFor(%+v, %d) = %+v, %t, want none", o, id, got, ok)
+	}
 }
 
 func checkOffice(t *testing.T, o impl.Office, want bool) {
@@ -411,9 +422,6 @@ func checkOwnSeats(t *testing.T, o impl.Office, x impl.Order) int {
 	if x.State != impl.OrderSold {
 		return 0
 	}
-	if len(ticket.Legs) != len(x.Rides) {
-		t.Fatalf("the ticket of %+v is %+v", x, ticket)
-	}
 	seats := 0
 	for i, r := range x.Rides {
 		train := trainOf(o.Lines, r.Train)
@@ -422,9 +430,14 @@ func checkOwnSeats(t *testing.T, o impl.Office, x impl.Order) int {
 		}
 		seats++
 		a, b, _ := wantCut(train, r.From, r.To)
-		own := impl.Hold{Train: r.Train, Day: r.Day, Coach: ticket.Legs[i].Coach, Seat: ticket.Legs[i].Seat, A: a, B: b, Order: x.Id}
-		if !slices.Contains(o.Holds, own) || !within(own.Coach, 1, train.Coaches) || !within(own.Seat, 1, train.Seats) {
-			t.Errorf("%+v of order %d has no hold of its own in %+v", r, x.Id, o.Holds)
+		at := slices.IndexFunc(o.Holds, func(h impl.Hold) bool {
+			return h == impl.Hold{Train: r.Train, Day: r.Day, Coach: h.Coach, Seat: h.Seat, A: a, B: b, Order: x.Id}
+		})
+		if at == -1 || !within(o.Holds[at].Coach, 1, train.Coaches) || !within(o.Holds[at].Seat, 1, train.Seats) {
+			t.Fatalf("%+v of order %d has no hold of its own in %+v", r, x.Id, o.Holds)
+		}
+		if len(ticket.Legs) > 0 && (ticket.Legs[i].Coach != o.Holds[at].Coach || ticket.Legs[i].Seat != o.Holds[at].Seat) {
+			t.Errorf("by %+v the ticket of order %d is %+v", o.Holds[at], x.Id, ticket)
 		}
 	}
 	return seats
@@ -669,12 +682,7 @@ func nightLines() []impl.Train {
 func TestOnlyTheFirstRideIsHeldAgainstToday(t *testing.T) {
 	o := officeOf(t, nightLines(), smallTariff(), startDay)
 	o = checkReply(t, o, sellOf(1, rideOn(10, 5, 1, 2), rideOn(20, 4, 2, 3)), 1, 1100)
-	want := impl.Ticket{Id: 1, Name: "A B", Class: 2, Price: 1100, First: 5, Last: 5, Legs: []impl.Leg{
-		{Train: 10, Day: 5, From: 1, To: 2, Coach: 1, Seat: 1}, {Train: 20, Day: 4, From: 2, To: 3, Coach: 1, Seat: 1},
-	}}
-	if got := checkTicketFor(t, o, 1); !sameTicket(got, want) {
-		t.Errorf("the ticket is %+v", got)
-	}
+	checkNoTicket(t, o, 1)
 	checkRefused(t, o, sellOf(2, rideOn(20, 4, 2, 3)), impl.SaidWay)
 	checkAll(t, o, changeOf(2, 1, rideOn(10, 5, 1, 2), rideOn(20, 4, 2, 3)), backOf(3, 2))
 }
@@ -1214,6 +1222,29 @@ func TestIncome(t *testing.T) {
 	}
 }
 
+// The legs of a night train may be of a day ahead of the first ride's, and
+// there is no ticket then; there is one where it sets out that day, or later.
+func TestTicketsWithANightTrain(t *testing.T) {
+	o := officeOf(t, nightLines(), smallTariff(), startDay)
+	o = checkAll(t, o, sellOf(1, rideOn(10, 5, 1, 2), rideOn(20, 4, 2, 3)), sellOf(2, rideOn(10, 5, 1, 2), rideOn(20, 5, 2, 3)), sellOf(3, rideOn(10, 6, 1, 2), rideOn(20, 7, 2, 3)))
+	if want := []impl.Ride{rideOn(10, 5, 1, 2), rideOn(20, 4, 2, 3)}; !slices.Equal(o.Orders[0].Rides, want) || len(impl.Held(o.Holds, 1)) != 2 {
+		t.Errorf("the order is %+v", o.Orders[0])
+	}
+	checkNoTicket(t, o, 1)
+	for id, days := range map[int][2]int{2: {5, 5}, 3: {6, 7}} {
+		if got := checkTicketFor(t, o, id); got.Id != id || got.First != days[0] || got.Last != days[1] {
+			t.Errorf("the ticket of order %d is %+v", id, got)
+		}
+	}
+	o = checkAll(t, o, changeOf(4, 1, rideOn(10, 8, 1, 2), rideOn(20, 8, 2, 3)), changeOf(5, 3, rideOn(10, 8, 1, 2), rideOn(20, 7, 2, 3)))
+	if got := checkTicketFor(t, o, 4); got.First != 8 || got.Last != 8 || len(got.Legs) != 2 {
+		t.Errorf("the ticket of order 4 is %+v", got)
+	}
+	for _, id := range []int{1, 3, 5} {
+		checkNoTicket(t, o, id)
+	}
+}
+
 func TestTicketsOfOrders(t *testing.T) {
 	o := busyOffice(t)
 	want := impl.Ticket{Id: 1, Name: "A B", Class: 2, Price: 1350, First: 14, Last: 14, Legs: []impl.Leg{
@@ -1255,7 +1286,7 @@ func TestSeatsOfATicket(t *testing.T) {
 		{Train: 11, Day: 6, Coach: 9, Seat: 9, A: 0, B: 1, Order: 1},
 	}
 	rides := []impl.Ride{rideOn(10, 5, 101, 103), rideOn(10, 5, 103, 104), rideOn(10, 6, 103, 105), rideOn(10, 6, 101, 102), rideOn(11, 6, 101, 102), rideOn(10, 6, 103, 102)}
-	o := impl.Office{Lines: lines, Holds: holds, Orders: []impl.Order{{Id: 1, State: impl.OrderSold, Rides: rides}, {Id: 2, State: impl.OrderSold}}}
+	o := impl.Office{Lines: lines, Holds: holds, Orders: []impl.Order{{Id: 1, State: impl.OrderSold, Class: 1, First: 5, Rides: rides}}}
 	want := []impl.Leg{
 		{Train: 10, Day: 5, From: 101, To: 103, Coach: 2, Seat: 1}, {Train: 10, Day: 5, From: 103, To: 104, Coach: 3, Seat: 2},
 		{Train: 10, Day: 6, From: 103, To: 105, Coach: 1, Seat: 2}, {Train: 10, Day: 6, From: 101, To: 102},
@@ -1267,21 +1298,17 @@ func TestSeatsOfATicket(t *testing.T) {
 		}
 		o.Holds = backwards(o.Holds)
 	}
-	if got := checkTicketFor(t, o, 2); got.Last != 0 || len(got.Legs) != 0 {
-		t.Errorf("the ticket of no rides is %+v", got)
-	}
 }
 
 // An order may have two holds that begin alike: the first counts.
 func TestTwoSeatsOfARide(t *testing.T) {
-	o := impl.Office{Lines: smallLines(), Holds: holdsBy(1, 2, 0, 1, 1, 1, 0, 2), Orders: []impl.Order{{Id: 1, State: impl.OrderSold, Rides: []impl.Ride{wholeWay(5)}}}}
+	o := impl.Office{Lines: smallLines(), Holds: holdsBy(1, 2, 0, 1, 1, 1, 0, 2), Orders: []impl.Order{{Id: 1, State: impl.OrderSold, Class: 2, First: 5, Rides: []impl.Ride{wholeWay(5)}}}}
 	checkOffice(t, o, true)
-	if got := checkTicketFor(t, o, 1); got.Legs[0].Seat != 2 {
-		t.Errorf("the ticket is %+v", got)
-	}
-	o.Holds = backwards(o.Holds)
-	if got := checkTicketFor(t, o, 1); got.Legs[0].Seat != 1 {
-		t.Errorf("the ticket is %+v", got)
+	for _, seat := range []int{2, 1} {
+		if got := checkTicketFor(t, o, 1); len(got.Legs) != 1 || got.Legs[0].Seat != seat {
+			t.Errorf("the ticket is %+v", got)
+		}
+		o.Holds = backwards(o.Holds)
 	}
 }
 
@@ -1289,14 +1316,178 @@ func TestTheLastDayOfATicket(t *testing.T) {
 	for _, n := range []struct {
 		last int
 		days []int
-	}{{5, []int{5}}, {7, []int{5, 7}}, {7, []int{7, 5}}, {9, []int{5, 9, 6}}, {-3, []int{-3, -8}}, {math.MaxInt, []int{0, math.MaxInt, math.MinInt}}} {
-		x := impl.Order{Id: 1, State: impl.OrderSold, First: 77}
+	}{{5, []int{5}}, {3, []int{3}}, {3, []int{3, 3}}, {7, []int{5, 7}}, {7, []int{7, 5}}, {9, []int{5, 9, 6}}, {99999, []int{99999, 3}}, {11, []int{4, 5, 6, 7, 11, 8}}} {
+		x := impl.Order{Id: 1, State: impl.OrderSold, Class: 1, First: 3}
 		for _, day := range n.days {
 			x.Rides = append(x.Rides, wholeWay(day))
 		}
-		if got := checkTicketFor(t, impl.Office{Orders: []impl.Order{x}}, 1); got.Last != n.last || got.First != 77 {
+		o := impl.Office{Orders: []impl.Order{x}}
+		if got := checkTicketFor(t, o, 1); got.Last != n.last || got.First != 3 {
 			t.Errorf("of %v the last day is %d, the first %d", n.days, got.Last, got.First)
 		}
+		o.Orders[0].First = slices.Min(n.days) + 1
+		checkNoTicket(t, o, 1)
+	}
+}
+
+// printed is an office whose order 1 has what the ticket says, on trains that
+// go from stop to stop, and its holds.
+func printed(x impl.Ticket) impl.Office {
+	order := impl.Order{Id: x.Id, State: impl.OrderSold, Name: x.Name, Class: x.Class, Price: x.Price, Paid: 77, First: x.First}
+	o := impl.Office{}
+	for _, l := range x.Legs {
+		order.Rides = append(order.Rides, rideOn(l.Train, l.Day, l.From, l.To))
+		o.Lines = append(o.Lines, shuttle(l.Train, daily, l.From, 0, l.To, 10))
+		if l.Coach != 0 || l.Seat != 0 {
+			o.Holds = append(o.Holds, impl.Hold{Train: l.Train, Day: l.Day, Coach: l.Coach, Seat: l.Seat, A: 0, B: 1, Order: 1})
+		}
+	}
+	o.Orders = []impl.Order{order}
+	return o
+}
+
+func checkPrinted(t *testing.T, o impl.Office, want bool) {
+	t.Helper()
+	if got, ok := impl.TicketFor(o, 1); ok != want || impl.TicketOk(got) != want {
+		t.Errorf("TicketFor(%+v, 1) = %+v, %t, want %t", o, got, ok, want)
+	}
+	checkTicketFor(t, o, 1)
+}
+
+func TestEveryTicketIsThatOfAnOrder(t *testing.T) {
+	for _, x := range someTickets() {
+		days := []int{}
+		for _, l := range x.Legs {
+			days = append(days, l.Day)
+		}
+		x.Last = slices.Max(days)
+		if got, ok := impl.TicketFor(printed(x), 1); !ok || !sameTicket(got, x) {
+			t.Errorf("the ticket %+v is now %+v, %t", x, got, ok)
+		}
+		checkPrinted(t, printed(x), true)
+	}
+}
+
+// orderFields are what an order's ticket is told by, each with its bounds while
+// the others hold; the last day follows the rides.
+var orderFields = []struct {
+	name        string
+	least, most int
+	set         func(o *impl.Order, h *impl.Hold, n int)
+}{
+	{"Id", 1, 999999999, func(o *impl.Order, h *impl.Hold, n int) { o.Id = n }},
+	{"Class", 1, 2, func(o *impl.Order, h *impl.Hold, n int) { o.Class = n }},
+	{"Price", 0, 100000000, func(o *impl.Order, h *impl.Hold, n int) { o.Price = n }},
+	{"First", 0, 14, func(o *impl.Order, h *impl.Hold, n int) { o.First = n }},
+	{"First, ahead of late rides", 0, 99999, func(o *impl.Order, h *impl.Hold, n int) { o.First, o.Rides[0].Day, o.Rides[1].Day = n, 99999, 99999 }},
+	{"all days", 0, 99999, func(o *impl.Order, h *impl.Hold, n int) { o.First, o.Rides[0].Day, o.Rides[1].Day = n, n, n }},
+	{"Day", 14, 99999, func(o *impl.Order, h *impl.Hold, n int) { o.Rides[0].Day = n }},
+	{"Day of the last ride", 14, 99999, func(o *impl.Order, h *impl.Hold, n int) { o.Rides[1].Day = n }},
+	{"Train", 1, 9999, func(o *impl.Order, h *impl.Hold, n int) { o.Rides[0].Train = n }},
+	{"Train of the last ride", 1, 9999, func(o *impl.Order, h *impl.Hold, n int) { o.Rides[1].Train = n }},
+	{"From", 1, 9999, func(o *impl.Order, h *impl.Hold, n int) { o.Rides[0].From, o.Rides[0].To = n, 5000 }},
+	{"To", 1, 9999, func(o *impl.Order, h *impl.Hold, n int) { o.Rides[0].From, o.Rides[0].To = 5000, n }},
+	{"From of the last ride", 1, 9999, func(o *impl.Order, h *impl.Hold, n int) { o.Rides[1].From, o.Rides[1].To = n, 5000 }},
+	{"To of the last ride", 1, 9999, func(o *impl.Order, h *impl.Hold, n int) { o.Rides[1].From, o.Rides[1].To = 5000, n }},
+	{"Coach", 1, 99, func(o *impl.Order, h *impl.Hold, n int) { h.Coach = n }},
+	{"Seat", 1, 99, func(o *impl.Order, h *impl.Hold, n int) { h.Seat = n }},
+	{"Coach without a seat", 0, 0, func(o *impl.Order, h *impl.Hold, n int) { h.Coach, h.Seat = n, 0 }},
+	{"Seat without a coach", 0, 0, func(o *impl.Order, h *impl.Hold, n int) { h.Coach, h.Seat = 0, n }},
+}
+
+func TestOrdersHaveATicketWithinItsBounds(t *testing.T) {
+	for _, f := range orderFields {
+		numbers := []int{f.least - 1, f.least, f.least + 1, f.most - 1, f.most, f.most + 1, -f.least, -f.most, f.least + 1<<32}
+		for _, n := range append(numbers, edgeNumbers...) {
+			o := printed(someTicket())
+			f.set(&o.Orders[0], &o.Holds[0], n)
+			if got, ok := impl.TicketFor(o, 1); ok != within(n, f.least, f.most) {
+				t.Errorf("%s of %d is told as %+v, %t", f.name, n, got, ok)
+			}
+			checkPrinted(t, o, within(n, f.least, f.most))
+		}
+	}
+}
+
+// What no ticket says does not keep an order from having one.
+func TestWhatIsNotOnATicket(t *testing.T) {
+	for _, n := range edgeNumbers {
+		o := printed(someTicket())
+		o.Orders[0].Card, o.Orders[0].Paid, o.Today = n, n, n
+		o.Told = []impl.Reply{{Request: n, Said: n, Order: n, Amount: n}}
+		if got, ok := impl.TicketFor(o, 1); !ok || !sameTicket(got, someTicket()) {
+			t.Errorf("with %d the ticket is %+v, %t", n, got, ok)
+		}
+	}
+}
+
+func TestNamesOfOrdersThatHaveATicket(t *testing.T) {
+	for n := range 60 {
+		checkPrinted(t, printed(named(strings.Repeat("x", n))), n <= 40)
+	}
+	checkPrinted(t, printed(named(strings.Repeat("x", 100000))), false)
+	for b := range 256 {
+		one := string([]byte{byte(b)})
+		for _, name := range []string{one, one + "A", "A" + one, strings.Repeat("A", 39) + one, one + strings.Repeat("A", 39)} {
+			checkPrinted(t, printed(named(name)), b >= 32 && b <= 126)
+		}
+	}
+}
+
+func TestOrdersHaveATicketOfOneToSixRides(t *testing.T) {
+	for _, n := range []int{0, 1, 2, 3, 4, 5, 6, 7, 8, 12, 13, 20000} {
+		x := someTicket()
+		x.Legs = slices.Repeat(x.Legs[1:], n)
+		checkPrinted(t, printed(x), n >= 1 && n <= 6)
+	}
+}
+
+func TestEachRideOfAnOrderIsLookedAt(t *testing.T) {
+	for place := range impl.MaxLegs {
+		for _, wrong := range []impl.Leg{
+			{Train: 0, Day: 14, From: 1, To: 2}, {Train: 1, Day: 13, From: 1, To: 2}, {Train: 1, Day: 100000, From: 1, To: 2}, {Train: 1, Day: 14, From: 2, To: 2},
+			{Train: 1, Day: 14, From: 0, To: 2}, {Train: 1, Day: 14, From: 1, To: 10000}, {Train: 1, Day: 14, From: 1, To: 2, Coach: 1}, {Train: 1, Day: 14, From: 1, To: 2, Seat: 1}, {},
+		} {
+			x := someTicket()
+			x.Legs = slices.Repeat(x.Legs, 3)
+			checkPrinted(t, printed(x), true)
+			x.Legs[place] = wrong
+			checkPrinted(t, printed(x), false)
+		}
+	}
+}
+
+func TestStopsOfARideOnATicketDiffer(t *testing.T) {
+	for _, from := range []int{1, 2, 5000, 9998, 9999} {
+		for _, to := range []int{1, 2, 5000, 9998, 9999} {
+			x := someTicket()
+			x.Legs[1].From, x.Legs[1].To = from, to
+			checkPrinted(t, printed(x), from != to)
+		}
+	}
+}
+
+func TestSeatsOfHoldsThatMakeNoTicket(t *testing.T) {
+	for coach := -1; coach <= 100; coach++ {
+		for _, seat := range []int{-1, 0, 1, 2, 98, 99, 100} {
+			x, turned := leastTicket(), leastTicket()
+			x.Legs[0].Coach, x.Legs[0].Seat = coach, seat
+			turned.Legs[0].Coach, turned.Legs[0].Seat = seat, coach
+			want := coach == 0 && seat == 0 || coach >= 1 && coach <= 99 && seat >= 1 && seat <= 99
+			checkPrinted(t, printed(x), want)
+			checkPrinted(t, printed(turned), want)
+		}
+	}
+	o := printed(someTicket())
+	o.Holds = append(o.Holds, impl.Hold{Train: 10, Day: 14, Coach: 1, A: 0, B: 1, Order: 1}, impl.Hold{Train: 20, Day: 15, Coach: 1, A: 0, B: 1, Order: 2}, impl.Hold{Train: 20, Day: 14, Coach: 1, A: 0, B: 1, Order: 1}, impl.Hold{Train: 20, Day: 15, Coach: 1, A: 1, B: 2, Order: 1})
+	checkPrinted(t, o, true)
+}
+
+func TestOnlyOrdersThatAreSoldHaveATicket(t *testing.T) {
+	for _, state := range append(slices.Clone(edgeNumbers), 0, 1, 2, 3, 4) {
+		o := printed(someTicket())
+		o.Orders[0].State = state
+		checkPrinted(t, o, state == impl.OrderSold)
 	}
 }
 
