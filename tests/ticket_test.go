@@ -2,6 +2,7 @@ package tests
 
 import (
 	"fmt"
+	"iter"
 	"math"
 	"math/rand"
 	"regexp"
@@ -346,34 +347,46 @@ func TestNothingElseIsAPlainText(t *testing.T) {
 	}
 }
 
-func TestPlainTextsWithAByteChanged(t *testing.T) {
-	both := [2]int{}
-	count := func(ok bool) {
-		if ok {
-			both[1]++
-		} else {
-			both[0]++
-		}
-	}
-	for _, x := range []impl.Ticket{leastTicket(), someTicket(), named(""), named(" A ")} {
-		s := wantPlain(x)
-		for i := range len(s) {
-			count(checkPlain(t, s[:i]))
-			count(checkPlain(t, s[i:]+s[:i]))
-			count(checkPlain(t, s[:i]+s[i+1:]))
+// changedTexts goes through what a text becomes when it is cut off, turned
+// around, or has a byte less, another byte or one more.
+func changedTexts(s string) iter.Seq[string] {
+	return func(yield func(string) bool) {
+		for i := range len(s) + 1 {
+			list := []string{s[:i], s[i:], s[i:] + s[:i], s[:i] + s[min(i+1, len(s)):]}
 			for b := range 256 {
 				one := string([]byte{byte(b)})
-				count(checkPlain(t, s[:i]+one+s[i:]))
-				count(checkPlain(t, s[:i]+one+s[i+1:]))
+				list = append(list, s[:i]+one+s[i:], s[:i]+one+s[min(i+1, len(s)):])
+			}
+			for _, changed := range list {
+				if !yield(changed) {
+					return
+				}
 			}
 		}
-		for b := range 256 {
-			count(checkPlain(t, s+string([]byte{byte(b)})))
+	}
+}
+
+// checkChanged wants that what a text becomes is right in some cases, and none
+// in others, so that neither goes unseen.
+func checkChanged(t *testing.T, check func(*testing.T, string) bool, texts ...string) {
+	t.Helper()
+	right, none := 0, 0
+	for _, s := range texts {
+		for changed := range changedTexts(s) {
+			if check(t, changed) {
+				right++
+			} else {
+				none++
+			}
 		}
 	}
-	if both[0] == 0 || both[1] == 0 {
-		t.Errorf("none and right ones: %v", both)
+	if right == 0 || none == 0 {
+		t.Errorf("%d right ones, %d that are none", right, none)
 	}
+}
+
+func TestPlainTextsWithAByteChanged(t *testing.T) {
+	checkChanged(t, checkPlain, wantPlain(leastTicket()), wantPlain(someTicket()), wantPlain(named("")), wantPlain(named(" A ")))
 }
 
 func TestWordsInAnotherOrder(t *testing.T) {
