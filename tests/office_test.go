@@ -1144,8 +1144,9 @@ func TestOfficesThatAreRight(t *testing.T) {
 	checkOffice(t, o, true)
 }
 
-func TestOfficesThatAreNotRight(t *testing.T) {
-	for name, put := range map[string]func(o *impl.Office){
+// wrongs make a busyOffice one that is not right.
+func wrongs() map[string]func(o *impl.Office) {
+	return map[string]func(o *impl.Office){
 		"lines that are not right":      func(o *impl.Office) { o.Lines[1].Days = 0 },
 		"lines in another order":        func(o *impl.Office) { o.Lines = backwards(o.Lines) },
 		"too many lines":                func(o *impl.Office) { o.Lines = manyTrains(41) },
@@ -1167,7 +1168,11 @@ func TestOfficesThatAreNotRight(t *testing.T) {
 		"a last order of the least Id":  func(o *impl.Office) { o.Orders[3].Id = math.MinInt },
 		"a request told twice":          func(o *impl.Office) { o.Told[4].Request = 1 },
 		"a request told twice in a row": func(o *impl.Office) { o.Told[1] = o.Told[0] },
-	} {
+	}
+}
+
+func TestOfficesThatAreNotRight(t *testing.T) {
+	for name, put := range wrongs() {
 		t.Run(name, func(t *testing.T) {
 			o := busyOffice(t)
 			put(&o)
@@ -1626,13 +1631,20 @@ func TestOfficesAtTheGreatestNumbers(t *testing.T) {
 	}
 }
 
+// oddOffice is a busyOffice with an order, a hold and a reply of any numbers.
+func oddOffice(t *testing.T, a, b int) impl.Office {
+	t.Helper()
+	o := busyOffice(t)
+	o.Orders = append(o.Orders, impl.Order{Id: a, State: 1, Class: b, Card: a, Rides: []impl.Ride{{Train: a, Day: b, From: a, To: b}}, Price: a, Paid: b, First: b})
+	o.Holds = append(o.Holds, impl.Hold{Train: a, Day: b, Coach: a, Seat: b, A: a, B: b, Order: a})
+	o.Told = append(o.Told, impl.Reply{Request: a, Said: b, Order: a, Amount: b})
+	return o
+}
+
 func TestOfficesAnswerAtAnyArguments(t *testing.T) {
 	for _, a := range edgeNumbers {
 		for _, b := range edgeNumbers {
-			o := busyOffice(t)
-			o.Orders = append(o.Orders, impl.Order{Id: a, State: 1, Class: b, Card: a, Rides: []impl.Ride{{Train: a, Day: b, From: a, To: b}}, Price: a, Paid: b, First: b})
-			o.Holds = append(o.Holds, impl.Hold{Train: a, Day: b, Coach: a, Seat: b, A: a, B: b, Order: a})
-			o.Told = append(o.Told, impl.Reply{Request: a, Said: b, Order: a, Amount: b})
+			o := oddOffice(t, a, b)
 			for kind := -1; kind <= 4; kind++ {
 				checkDo(t, o, impl.Want{Kind: kind, Request: 60, Order: a, Class: b, Card: a, Rides: []impl.Ride{{Train: a, Day: b, From: b, To: a}}})
 				checkDo(t, o, impl.Want{Kind: kind, Request: b, Order: 5, Class: 2, Rides: []impl.Ride{wholeWay(14)}})
